@@ -1,0 +1,1 @@
+"""Keptoperands: which operand comes out, what is called, and what is kept."""
