@@ -1,0 +1,78 @@
+"""The interface at the document's end, and the folder of the package."""
+
+import ast
+import importlib
+import inspect
+import pathlib
+import unittest
+
+PACKAGE = pathlib.Path(__file__).resolve().parent.parent / "keptops"
+INTERFACE = {
+    "exprs": ["check_expression(expr)", "variables(expr)", "size(expr)", "event_places(expr)"],
+    "evaluation": ["evaluate(expr, kinds, answers)"],
+    "texts": ["expression_text(expr)", "read_expression(text)"],
+    "trees": [
+        "call_tree(expr, kinds)", "count_runs(expr, kinds)", "run_number(expr, kinds, answers)",
+        "nth_run(expr, kinds, n)", "parting(one, other)", "parting_test(one, other)",
+    ],
+    "forms": [
+        "form(expr)", "matters(expr)", "count_worlds(expr, tree)", "nth_world(expr, tree, n)", "trees(expr)",
+        "mergings(one, other)",
+    ],
+    "parts": [
+        "paths(expr)", "part_of(expr, path)", "with_part(expr, path, other)", "pruned(expr)",
+        "first_reach(expr, path)", "first_result(expr, path)", "origin(expr, kinds, answers)",
+    ],
+}
+
+
+class InterfaceTest(unittest.TestCase):
+    def test_each_function_is_defined_in_its_file_with_its_arguments(self):
+        for name, functions in INTERFACE.items():
+            module = importlib.import_module(f"keptops.{name}")
+            for text in functions:
+                function = getattr(module, text.partition("(")[0])
+                self.assertEqual(function.__name__ + str(inspect.signature(function)), text)
+                self.assertEqual(function.__module__, f"keptops.{name}")
+
+
+class FolderTest(unittest.TestCase):
+    def files(self):
+        return [(path, path.read_text(encoding="utf-8")) for path in sorted(PACKAGE.rglob("*.py"))]
+
+    def test_nothing_but_files_of_the_program(self):
+        found = [path for path in PACKAGE.rglob("*") if "__pycache__" not in path.parts]
+        self.assertEqual([path for path in found if path.suffix != ".py"], [])
+        self.assertIn(PACKAGE / "__init__.py", found)
+
+    def test_sizes_and_characters(self):
+        for path, text in self.files():
+            self.assertLessEqual(len(text.splitlines()), 399, path)
+            self.assertLessEqual(max(len(line) for line in text.splitlines()), 120, path)
+            self.assertTrue(all(sign == "\n" or " " <= sign <= "~" for sign in text), path)
+            for node in ast.walk(ast.parse(text)):
+                if isinstance(node, ast.FunctionDef):
+                    self.assertLessEqual(node.end_lineno - node.lineno + 1, 40, (path, node.name))
+
+    def test_imports_come_from_the_package_alone(self):
+        for path, text in self.files():
+            tree = ast.parse(text)
+            for node in ast.walk(tree):
+                self.assertNotIsInstance(node, (ast.Import, ast.AsyncFunctionDef, ast.Await, ast.GeneratorExp), path)
+                if isinstance(node, ast.ImportFrom):
+                    self.assertIn(node, tree.body, path)
+                    self.check_import(node)
+
+    def check_import(self, node):
+        """Names come from the very file that defines them."""
+        self.assertTrue(node.module.startswith("keptops."))
+        module = importlib.import_module(node.module)
+        defined = ast.parse(inspect.getsource(module)).body
+        names = [name.name for name in defined if isinstance(name, (ast.FunctionDef, ast.ClassDef))]
+        names += [target.id for line in defined if isinstance(line, ast.Assign) for target in line.targets]
+        for alias in node.names:
+            self.assertIn(alias.name, names)
+
+
+if __name__ == "__main__":
+    unittest.main()
