@@ -101,23 +101,23 @@ def _reaches(expr, kinds):
 
 def first_reach(expr, path):
     """The least input with which the part at the path is reached, or None if it is dead."""
-    check_surveyable([expr])
-    _part_at(expr, path)
-    for kinds in all_kinds(variables_of([expr])):
-        begun = _reaches(expr, kinds).begun
-        if path in begun:
-            return (kinds, begun[path])
-    return None
+    return _least_input(expr, path, False)
 
 
 def first_result(expr, path):
     """The least input with which the value of the part at the path comes out, or None."""
+    return _least_input(expr, path, True)
+
+
+def _least_input(expr, path, as_result):
+    """The least input that reaches the part at the path, or whose value comes from it; or None."""
     check_surveyable([expr])
     _part_at(expr, path)
     for kinds in all_kinds(variables_of([expr])):
-        ended = _reaches(expr, kinds).ended
-        if path in ended:
-            return (kinds, ended[path])
+        world = _reaches(expr, kinds)
+        least = world.ended if as_result else world.begun
+        if path in least:
+            return (kinds, least[path])
     return None
 
 

@@ -81,11 +81,13 @@ class FormTest(Case):
     def test_forms_are_equal_just_if_nothing_parts(self):
         exprs = samples()
         pairs = [*itertools.combinations(exprs[:40], 2), *zip(exprs, exprs[1:])]
-        pairs += [(expr, ("if", A, expr, expr)) for expr in exprs if helper.surveyable(("and", A, expr))][::3]
-        pairs += [(expr, ("and", expr, expr)) for expr in exprs if helper.surveyable(("and", expr, expr))][::3]
-        for one, other in pairs:
-            if helper.surveyable(("and", one, ("and", one, NONE))) and len(helper.names_in(one, other)) <= 3:
-                self.assertEqual(form(one) == form(other), parting(one, other) is None)
+        for expr in exprs:
+            others = [("if", A, expr, expr), ("and", expr, expr), ("or", ("false",), expr), ("not", ("not", expr))]
+            pairs += [(expr, other) for other in others if helper.surveyable(other)]
+        alike = [parting(one, other) is None for one, other in pairs]
+        self.assertEqual([form(one) == form(other) for one, other in pairs], alike)
+        self.assertGreater(alike.count(True), 100)
+        self.assertGreater(alike.count(False), 100)
 
     def test_the_same_call_twice_is_not_once(self):
         self.assertNotEqual(form(("and", F, F)), form(F))

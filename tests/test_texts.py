@@ -77,6 +77,7 @@ class WritingTest(Case):
     def test_each_form(self):
         self.check_text(A, "a")
         self.check_text(("name", "abcdefgh"), "abcdefgh")
+        self.check_text(call("zaz", ("name", "z")), "zaz(z)")
         self.check_text(NONE, "none")
         self.check_text(TRUE, "true")
         self.check_text(FALSE, "false")
