@@ -9,7 +9,7 @@ the part that it came from. (Of an object alone it is the first two of these.)
 """
 
 from keptops.errors import InvalidWorld
-from keptops.exprs import CONSTANTS, check_expression, variables_of
+from keptops.exprs import CONSTANTS, check_expression, operands, variables_of, with_operands
 
 KINDS = ("t", "f", "n")
 ANSWERS = ("t", "f", "n", "x")
@@ -20,6 +20,11 @@ def held_object(source, kind):
     if kind == "n":
         return (("none",), False)
     return (("object", source), kind == "t")
+
+
+def held_constant(truth):
+    """The constant for a truth, and whether it is true."""
+    return (("true",), True) if truth else (("false",), False)
 
 
 def holds_of(kinds, names):
@@ -53,7 +58,11 @@ class OneRun(World):
             return ("wanting",)
         if self.answers[number] == "x":
             return ("failed", number)
-        return then(held_object(("event", number), self.answers[number]))
+        return then(held_object(self.source(number), self.answers[number]))
+
+    def source(self, number):
+        """Where the answer of the event with this number comes from."""
+        return ("event", number)
 
 
 def follow(expr, path, world, then):
@@ -104,18 +113,13 @@ def _behind_first(expr, path, world, then, held):
     value, truth, _ = held
     word = expr[0]
     if word == "not":
-        return then((*_constant(not truth), path))
+        return then((*held_constant(not truth), path))
     if word == "isnone":
-        return then((*_constant(value == ("none",)), path))
+        return then((*held_constant(value == ("none",)), path))
     at = _operand_behind(word, value, truth)
     if at == 0:
         return then(held)
     return follow(expr[at + 1], path + (at,), world, then)
-
-
-def _constant(truth):
-    """The constant for a truth, as an object would be held."""
-    return (("true",), True) if truth else (("false",), False)
 
 
 def _operand_behind(word, value, truth):
@@ -127,6 +131,38 @@ def _operand_behind(word, value, truth):
     if word == "or":
         return 0 if truth else 1
     return 1 if value == ("none",) else 0
+
+
+def settled(expr, holds):
+    """An expression that does the same where variables hold this, without the choices that are no longer open.
+
+    What follows an event is evaluated once for each of its answers, so it is worth while to
+    evaluate ahead what no answer changes.
+    """
+    word = expr[0]
+    if word in ("call", "compare"):
+        return with_operands(expr, [settled(operand, holds) for operand in operands(expr)])
+    if _is_leaf(expr):
+        return expr
+    first = settled(expr[1], holds)
+    if not _is_leaf(first):
+        return (word, first, *[settled(operand, holds) for operand in expr[2:]])
+    held = follow(first, (), World(holds), lambda found: found)
+    if word in ("not", "isnone"):
+        return _behind_first(expr, (), World(holds), lambda found: found[0], held)
+    at = _operand_behind(word, held[0], held[1])
+    return first if at == 0 else settled(expr[at + 1], holds)
+
+
+def _is_leaf(expr):
+    """Whether this is a variable or a constant."""
+    return expr[0] == "name" or expr[0] in CONSTANTS
+
+
+def check_answers(answers):
+    """Raise InvalidWorld if this is no list of answers."""
+    if not isinstance(answers, list) or not all([answer in ANSWERS for answer in answers]):
+        raise InvalidWorld("this is no list of answers")
 
 
 def check_kinds(kinds, names):
@@ -143,8 +179,7 @@ def run_once(expr, kinds, answers):
     check_expression(expr)
     names = variables_of([expr])
     check_kinds(kinds, names)
-    if not isinstance(answers, list) or not all([answer in ANSWERS for answer in answers]):
-        raise InvalidWorld("this is no list of answers")
+    check_answers(answers)
     world = OneRun(holds_of(kinds, names), answers)
     end = follow(expr, (), world, lambda held: ("value", held))
     return (world.events, end)

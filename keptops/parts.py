@@ -23,10 +23,10 @@ def _paths(expr, path):
 def part_of(expr, path):
     """The part at the path."""
     check_expression(expr)
-    return _part_at(expr, path)
+    return part_at(expr, path)
 
 
-def _part_at(expr, path):
+def part_at(expr, path):
     """The part at the path; raise InvalidPath if the value is no path that leads to one."""
     if not isinstance(path, tuple):
         raise InvalidPath("this is not a path")
@@ -43,9 +43,12 @@ def with_part(expr, path, other):
     """The expression with another one in the place of the part at the path."""
     check_expression(expr)
     check_expression(other)
-    _part_at(expr, path)
-    result = _replaced(expr, path, other)
-    # The result is built like an expression, so only its numbers can be wrong.
+    part_at(expr, path)
+    return not_too_large(replaced(expr, path, other))
+
+
+def not_too_large(result):
+    """What is built like an expression, unchanged; raise TooLarge if a number of it is exceeded."""
     try:
         check_expression(result)
     except InvalidExpression:
@@ -53,11 +56,12 @@ def with_part(expr, path, other):
     return result
 
 
-def _replaced(expr, path, other):
+def replaced(expr, path, other):
+    """An expression with another one in the place of the part at a path that is known to be right."""
     if len(path) == 0:
         return other
     parts = list(operands(expr))
-    parts[path[0]] = _replaced(parts[path[0]], path[1:], other)
+    parts[path[0]] = replaced(parts[path[0]], path[1:], other)
     return with_operands(expr, parts)
 
 
@@ -112,7 +116,7 @@ def first_result(expr, path):
 def _least_input(expr, path, as_result):
     """The least input that reaches the part at the path, or whose value comes from it; or None."""
     check_surveyable([expr])
-    _part_at(expr, path)
+    part_at(expr, path)
     for kinds in all_kinds(variables_of([expr])):
         world = _reaches(expr, kinds)
         least = world.ended if as_result else world.begun

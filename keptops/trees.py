@@ -1,7 +1,7 @@
 """Call trees, the complete runs in them, and the least input that parts two expressions."""
 
 from keptops.errors import InvalidNumber, InvalidRun, TooMany
-from keptops.evaluation import ANSWERS, KINDS, World, check_kinds, follow, held_object, holds_of
+from keptops.evaluation import ANSWERS, KINDS, World, check_kinds, follow, held_object, holds_of, settled
 from keptops.exprs import check_expression, is_integer, places_of, variables_of
 
 MOST_SURVEYED_VARIABLES = 3
@@ -26,7 +26,7 @@ class AllRuns(World):
 
 def tree_of(expr, holds):
     """The call tree of an expression that is known to be right, where its variables hold this."""
-    return follow(expr, (), AllRuns(holds), lambda held: ("done", held[0]))
+    return follow(settled(expr, holds), (), AllRuns(holds), lambda held: ("done", held[0]))
 
 
 def call_tree(expr, kinds):
@@ -120,13 +120,13 @@ def _least_parting(one, other, as_test):
     names = variables_of([one, other])
     for kinds in all_kinds(names):
         holds = holds_of(kinds, names)
-        answers = _parting_answers(tree_of(one, holds), tree_of(other, holds), kinds, as_test)
+        answers = parting_answers(tree_of(one, holds), tree_of(other, holds), kinds, as_test)
         if answers is not None:
             return (kinds, answers)
     return None
 
 
-def _parting_answers(one, other, kinds, as_test):
+def parting_answers(one, other, kinds, as_test):
     """The fewest, then least answers behind which the trees tell different things, or None."""
     level = [(one, other, [])]
     # Level by level, as fewer answers count ahead of lesser ones. Where an event of both

@@ -13,6 +13,7 @@ import unittest
 KINDS = ("t", "f", "n")
 ANSWERS = ("t", "f", "n", "x")
 SIGNS = ("<", "<=", ">", ">=", "==", "!=")
+TESTS = ("true", "false", "none", "given")
 BARRED = (
     "and", "or", "not", "if", "else", "is", "none", "true", "false",
     "set", "give", "try", "except", "end", "then", "program", "keep", "self",
@@ -55,35 +56,27 @@ class Stop(Exception):
     """The evaluation ends here, with an outcome."""
 
 
-class Told:
-    """One evaluation: `events`, `outcome`, the `reached` paths, and the `origin` of the value."""
+class Evaluation:
+    """Evaluates expressions: `events` so far, and the paths that are `reached`."""
 
-    def __init__(self, expr, kinds, answers):
-        self.kinds, self.answers = kinds, answers
-        self.events, self.reached, self.origin = [], [], None
-        try:
-            value, self.origin = self.value(expr, ())
-            self.outcome = ("value", value)
-        except Stop as stop:
-            self.outcome = stop.args[0]
+    def __init__(self, answers):
+        self.answers = answers
+        self.events, self.reached = [], []
 
     def seen(self, source, kind):
         return NONE if kind == "n" else ("object", source)
 
-    def true(self, value):
-        if value[0] != "object":
-            return value == TRUE
-        word, at = value[1]
-        return (self.kinds[at] if word == "name" else self.answers[at]) == "t"
+    def source(self, number):
+        return ("event", number)
 
     def event(self, word, *values):
         number = len(self.events)
         self.events.append((word, values))
-        if number == len(self.answers):
+        if number >= len(self.answers):
             raise Stop(("wanting",))
         if self.answers[number] == "x":
             raise Stop(("failed", number))
-        return self.seen(("event", number), self.answers[number])
+        return self.seen(self.source(number), self.answers[number])
 
     def value(self, expr, path):
         """The value, and the path of the part that it comes from."""
@@ -94,7 +87,7 @@ class Told:
 
         match expr:
             case ("name", x):
-                return self.seen(("name", x), self.kinds[x]), path
+                return self.look(x), path
             case ("none" | "true" | "false",):
                 return expr, path
             case ("not", a):
@@ -123,6 +116,25 @@ class Told:
                     if not self.true(answer):
                         break
                 return answer, path
+
+
+class Told(Evaluation):
+    """The evaluation of one expression: `events`, `outcome`, the `reached` paths, and the `origin` of the value."""
+
+    def __init__(self, expr, kinds, answers):
+        super().__init__(answers)
+        self.kinds, self.origin = kinds, None
+        try:
+            value, self.origin = self.value(expr, ())
+            self.outcome = ("value", value)
+        except Stop as stop:
+            self.outcome = stop.args[0]
+
+    def look(self, x):
+        return self.seen(("name", x), self.kinds[x])
+
+    def true(self, value):
+        return true_value(value, self.kinds, self.answers)
 
 
 def told(expr, kinds, answers):
@@ -185,6 +197,761 @@ def true_value(value, kinds, answers):
         return value == TRUE
     word, at = value[1]
     return (kinds[at] if word == "name" else answers[at]) == "t"
+
+
+def least_parting(one, other, same):
+    """The first input, in order, for which the same outcome is not told: by going through all."""
+    most = max(places_in(one), places_in(other))
+    for kinds in worlds(names_in(one, other)):
+        for answers in answer_lists(most):
+            if not same(told(one, kinds, answers), told(other, kinds, answers), kinds, answers):
+                return (kinds, answers)
+    return None
+
+
+def equal(one, other, kinds, answers):
+    """Whether two tuples are the same in the sense of parting."""
+    return one == other
+
+
+def equal_truth(one, other, kinds, answers):
+    """Whether two tuples are the same in the sense of parting_test."""
+    if one[0] != other[0] or not one[1][0] == other[1][0] == "value":
+        return one == other
+    return true_value(one[1][1], kinds, answers) == true_value(other[1][1], kinds, answers)
+
+
+def rows_in(block):
+    """How many rows a block has, those within rows included."""
+    return sum(1 + sum(rows_in(part) for part in row if type(part) is tuple and is_block(part)) for row in block)
+
+
+def is_block(part):
+    """Whether a part of a row is a block: expressions begin with a word."""
+    return part == () or type(part[0]) is tuple
+
+
+class ProgramCall(Evaluation):
+    """One call of a program: `events`, `outcome`, `held`, and in `begun` the rows with what names held at them.
+
+    `kinds` are the kinds of all objects by their sources; those of this call are added.
+    """
+
+    def __init__(self, program, number, holds, kinds, call):
+        super().__init__(call[1])
+        self.number, self.holds, self.kinds, self.begun = number, dict(holds), kinds, []
+        for name, kind in zip(program[0], call[0]):
+            self.kinds[(number, ("name", name))] = kind
+            self.holds[name] = self.seen((number, ("name", name)), kind)
+        try:
+            self.block(program[2], 0)
+            self.outcome = ("value", NONE)
+        except Stop as stop:
+            self.outcome = stop.args[0]
+        self.held = tuple(self.holds[name] for name, _ in program[1])
+        self.complete = self.outcome != ("wanting",) and len(self.events) == len(self.answers)
+
+    def source(self, number):
+        return (self.number, ("event", number))
+
+    def event(self, word, *values):
+        number = len(self.events)
+        if number < len(self.answers):
+            self.kinds[self.source(number)] = self.answers[number]
+        return super().event(word, *values)
+
+    def look(self, x):
+        return self.holds[x]
+
+    def true(self, value):
+        return value == TRUE or (value[0] == "object" and self.kinds[value[1]] == "t")
+
+    def block(self, block, number):
+        for row in block:
+            self.begun.append((number, dict(self.holds)))
+            self.row(row, number)
+            number += rows_in((row,))
+
+    def row(self, row, number):
+        match row:
+            case ("set", x, e):
+                self.holds[x] = self.value(e, ())[0]
+            case ("give", e):
+                raise Stop(("value", self.value(e, ())[0]))
+            case ("if", e, yes, no):
+                if self.true(self.value(e, ())[0]):
+                    self.block(yes, number + 1)
+                else:
+                    self.block(no, number + 1 + rows_in(yes))
+            case ("try", body, handler):
+                try:
+                    self.block(body, number + 1)
+                except Stop as stop:
+                    if stop.args[0][0] != "failed":
+                        raise
+                    self.block(handler, number + 1 + rows_in(body))
+
+
+class Played:
+    """The calls of a history, up to one that is wanting; it may go on from kept names that hold something."""
+
+    def __init__(self, program, history, holds=None, kinds=None):
+        self.program, self.calls, self.kinds = program, [], dict(kinds or {})
+        self.holds = holds or {name: (constant,) for name, constant in program[1]}
+        for call in history:
+            self.go_on(call)
+            if self.calls[-1].outcome == ("wanting",):
+                break
+
+    def go_on(self, call):
+        found = ProgramCall(self.program, len(self.calls), self.holds, self.kinds, call)
+        self.calls.append(found)
+        self.holds = dict(zip([name for name, _ in self.program[1]], found.held))
+        return found
+
+    def told(self):
+        """What play is to return."""
+        return [(call.events, call.outcome, call.held) for call in self.calls]
+
+
+def by_place(program, source):
+    """A source with the place of a parameter for its name."""
+    number, (word, at) = source
+    return (number, (word, program[0].index(at) if word == "name" else at))
+
+
+def told_by_places(program, call):
+    """The events and the outcome of a call, with its parameters told by their places."""
+    def value(found):
+        return ("object", by_place(program, found[1])) if found[0] == "object" else found
+
+    events = [(word, tuple(value(operand) for operand in values)) for word, values in call.events]
+    outcome = ("value", value(call.outcome[1])) if call.outcome[0] == "value" else call.outcome
+    return (events, outcome)
+
+
+def lively_program(source, parameters, kept, places):
+    """A program that mostly keeps objects for some calls, and tells them."""
+    names = [("name", name) for name, _ in kept]
+    leaves = [*names * 2, *[("name", name) for name in parameters] * 3, NONE, TRUE, FALSE]
+    left = [places]
+
+    def asked():
+        if left[0] == 0:
+            return source.choice(leaves)
+        left[0] -= 1
+        if source.random() < 0.2:
+            return compare(source.choice(leaves), (source.choice(SIGNS), source.choice(leaves)))
+        return call(source.choice("fg"), *source.sample(leaves, source.randint(0, 2)))
+
+    def expression():
+        first, second = source.choice(leaves + [None] * 6) or asked(), source.choice(leaves)
+        word = source.choice(["", "", "", "default", "or", "and", "not", "isnone", "if"])
+        if word == "":
+            return first
+        if word in ("not", "isnone"):
+            return (word, first)
+        if word == "if":
+            return (word, first, second, source.choice(leaves))
+        return (word, *source.sample([first, second], 2))
+
+    def sets(many):
+        return tuple(("set", source.choice(kept)[0], expression()) for _ in range(many))
+
+    rows = list(sets(source.randint(0, 1)))
+    for _ in range(source.randint(1, 4)):
+        word = source.choice(["set", "set", "set", "if", "try"])
+        if word == "set":
+            rows += sets(1)
+        elif word == "if":
+            rows.append((word, expression(), sets(source.randint(0, 2)), sets(source.randint(0, 1))))
+        else:
+            rows.append((word, sets(source.randint(1, 2)), sets(source.randint(0, 1))))
+    value = source.choice([*names, call("h", *names)] if left[0] else names)
+    return (tuple(parameters), tuple(kept), (*rows, ("give", value)))
+
+
+def bad_programs():
+    """Values that are no programs, by each way in which they may fail to be one."""
+    give = ("give", A)
+    bad = [*no_values(), (), [], {}, ((), ()), ((), (), (), ()), [(), (), ()], ((), (), []), ((), [], ()), ([], (), ())]
+    bad += [((), (), give), ((), (), None), ((), (), "give"), (("a",), (), (give,), ()), (("a",), (), [give])]
+    # Parameters and kept names.
+    names = ["", "A", "a1", "a b", "abcdefghi", *BARRED, None, True, 0, ("a",), ["a"], {"a": 1}]
+    bad += [((name,), (), ()) for name in names] + [((), ((name, "none"),), ()) for name in names]
+    bad += [("a", (), ()), ("ab", (), ()), (None, (), ()), ({"a": 1}, (), ()), (("a", "b", "c"), (), ()),
+        (("a", "a"), (), ())]
+    constants = ["", "None", "t", "f", "n", "nil", " none", None, True, False, 0, ("none",), ["none"]]
+    bad += [((), (("a", constant),), ()) for constant in constants]
+    bad += [((), value, ()) for value in ["a", None, ("a",), ("a", "none"), (("a",),), (("a", "none", "none"),),
+        (["a", "none"],)]]
+    bad += [((), [("a", "none")], ()), ((), {"a": "none"}, ()), ((), tuple((name, "none") for name in "abcde"), ())]
+    bad += [((), (("a", "none"), ("a", "none")), ()), ((), (("a", "none"), ("b", "true"), ("a", "false")), ())]
+    bad += [(("a",), (("a", "none"),), ()), (("b", "a"), (("c", "none"), ("a", "none")), ())]
+
+    def of(*rows):
+        return (("p",), (("a", "none"), ("b", "true")), rows)
+
+    # Rows.
+    rows = [*no_values(), (), [], ["give", A], ("give",), ("give", A, A), ("gives", A), ("set", "a"), ("set", A), A,
+        NONE]
+    rows += [("set", "a", A, A), ("set", ["a"], A), ("set", None, A), ("if", A), ("if", A, ()), ("if", A, (), (), ())]
+    rows += [("try", ()), ("try", (), (), ()), ("try", A, ()), ("if", (), A, ()), ("while", A, ()), ("not", A)]
+    rows += [("", A), (None, A), (True, A), (("give",), A), (["give"], A), ("except", ()), ("else", A, (), ())]
+    bad += [of(row) for row in rows] + [of(("give", A), row) for row in rows]
+    bad += [of(("if", A, (row,), ())) for row in rows] + [of(("if", A, (), (row,))) for row in rows]
+    bad += [of(("try", (row,), ())) for row in rows] + [of(("try", (), (row,))) for row in rows]
+    # Blocks.
+    blocks = [None, True, 0, "", "a", [], {}, [give], give, {"a": 1}, [()], deep(list, 40)]
+    bad += [of(("if", A, block, ())) for block in blocks] + [of(("if", A, (), block)) for block in blocks]
+    bad += [of(("try", block, ())) for block in blocks] + [of(("try", (), block)) for block in blocks]
+    # Expressions.
+    for wrong in bad_expressions()[::3]:
+        bad += [of(("set", "a", wrong)), of(("give", wrong)), of(("if", wrong, (), ())),
+            of(("try", (("give", wrong),), ()))]
+    # Names that are not there, or are parameters.
+    bad += [of(("give", C)), of(("set", "a", call("f", C))), of(("if", ("not", C), (), ())),
+        of(("try", (), (("give", C),)))]
+    bad += [of(("set", "c", A)), of(("set", "p", A)), of(("set", "f", call("f"))),
+        of(("if", A, (("set", "p", B),), ()))]
+    bad += [((), (), (give,)), (("b",), (), (give,)), ((), (("b", "none"),), (give,)), (("a",), (), (("set", "a", A),))]
+    return bad + [of(*rows) for rows in too_large_rows()]
+
+
+def nested_rows(depth, row=None):
+    """Rows in blocks nested so deep."""
+    if depth == 1:
+        return () if row is None else (row,)
+    return (("if", A, nested_rows(depth - 1, row), ()),)
+
+
+def too_large_rows():
+    """Rows just beyond each bound, with the names a, b and p."""
+    sets = (("set", "a", A),) * 30
+    rows = [sets + sets[:1], (("if", A, sets, ()),), (("try", sets[:14], sets[:16]),),
+        sets[:20] + (("try", sets[:9], sets[:1]),)]
+    rows += [(("if", A, sets[:15], sets[:15]),), sets * 1000, (("try", (), sets * 500),)]
+    rows += [nested_rows(7), nested_rows(7, ("give", A)), nested_rows(8), nested_rows(60), nested_rows(121)]
+    rows += [(("if", A, (), nested_rows(6)),), (("try", nested_rows(6), ()),), (("try", (), nested_rows(6)),)]
+    rows += [nested_rows(6, ("if", A, (), ())), nested_rows(6, ("try", (), ())),
+        nested_rows(5, ("if", A, (), ((("try", (), ())),)))]
+    f = ("set", "a", call("f"))
+    rows += [(f,) * 7, (("give", most_calls()), f), (("if", call("f"), (f, f, f), (f, f, f)),),
+        (("try", (f,) * 4, (f,) * 3),)]
+    rows += [(("set", "a", compare(A, ("<", A), ("<", A), ("<", A))), ("give", compare(A, *[("<", B)] * 4)))]
+    return rows
+
+
+def most_calls():
+    return joined([call("f"), call("g"), call("h"), call("f"), call("g"), call("h")])
+
+
+def right_programs():
+    """Programs with each row, and at the bounds."""
+    right = [((), (), ()), (("p",), (), ()), (("p", "q"), (), (("give", ("name", "q")),)), ((), (("c", "none"),), ())]
+    right += [((), tuple((name, constant) for name, constant in zip("abcd", ("none", "true", "false", "none"))), ())]
+    right += [(("abcdefgh",), (("f", "none"),), (("set", "f", call("f", ("name", "abcdefgh"))),))]
+
+    def of(*rows):
+        return (("p",), (("a", "none"), ("b", "true")), rows)
+
+    sets = (("set", "a", A),) * 30
+    f = ("set", "a", call("f"))
+    right += [of(*rows) for rows in [
+        sets, (("if", A, sets[:29], ()),), (("try", sets[:14], sets[:15]),), sets[:20] + (("try", sets[:8], sets[:1]),),
+        nested_rows(6), nested_rows(6, ("give", A)), (("if", A, (), nested_rows(5)),), (("try", nested_rows(5), ()),),
+        (("try", (), nested_rows(5)),), (f,) * 6, (("give", most_calls()),), (("if", call("f"), (f, f, f), (f, f)),),
+        (("try", (f,) * 3, (f,) * 3),), (("give", compare(A, *[("<", ("name", "p"))] * 4)), f, f),
+        (("set", "a", most_parts()), ("set", "b", most_levels()), ("give", NONE)),
+        (("try", (("if", call("f"), (("give", A),), (("set", "b", call("g", B)),)),),
+            (("try", (f,), (("give", TRUE),)),)),),
+    ]]
+    return right
+
+
+def histories(programs, most):
+    """All histories of up to so many calls in order; all calls ahead of the last one are complete for all programs."""
+    calls = all_calls(programs[0], max(program_places(program) for program in programs))
+    level = [[]]
+    for many in range(most):
+        longer = []
+        for history in level:
+            for call in calls:
+                yield [*history, call]
+                if many + 1 < most and all(Played(program, [*history, call]).calls[-1].complete
+                    for program in programs):
+                    longer.append([*history, call])
+        level = longer
+
+
+def state_behind(*played):
+    """The state of the kept names of programs that were played."""
+    numbers, state = {}, []
+    for one in played:
+        for value in one.holds.values():
+            if value[0] == "object":
+                number = numbers.setdefault(by_place(one.program, value[1]), len(numbers))
+                state.append((number, one.kinds[value[1]]))
+            else:
+                state.append(value[0])
+    return tuple(state)
+
+
+def played_from(program, entries, call):
+    """A call of a program whose kept names hold what a state tells."""
+    holds, kinds = {}, {}
+    for (name, _), entry in zip(program[1], entries):
+        if isinstance(entry, tuple):
+            holds[name] = ("object", (-1, ("event", entry[0])))
+            kinds[-1, ("event", entry[0])] = entry[1]
+        else:
+            holds[name] = (entry,)
+    return Played(program, [call], holds, kinds)
+
+
+def calls_from(programs, state):
+    """All calls from a state of programs in order: each with what is played of it, one for each program."""
+    for call in all_calls(programs[0], max(program_places(program) for program in programs)):
+        played, at = [], 0
+        for program in programs:
+            played.append(played_from(program, state[at:at + len(program[1])], call))
+            at += len(program[1])
+        yield call, played
+
+
+def states_that_come(programs):
+    """All states that come behind complete calls, in order, each with the least history that leads to it."""
+    begin = tuple(constant for program in programs for _, constant in program[1])
+    found, order = {begin: []}, [begin]
+    for state in order:
+        for call, played in calls_from(programs, state):
+            behind = state_behind(*played)
+            if all(one.calls[-1].complete for one in played) and behind not in found:
+                found[behind] = [*found[state], call]
+                order.append(behind)
+    return found
+
+
+def all_calls(program, most=None):
+    """All calls with at most so many answers, in order."""
+    most = program_places(program) if most is None else most
+    return [(kinds, answers) for kinds in itertools.product(KINDS, repeat=len(program[0]))
+            for answers in answer_lists(most)]
+
+
+def expressions_in(block):
+    """All expressions of the rows of a block."""
+    found = []
+    for row in block:
+        match row:
+            case ("set", _, e) | ("give", e):
+                found += [e]
+            case ("if", e, yes, no):
+                found += [e, *expressions_in(yes), *expressions_in(no)]
+            case ("try", body, handler):
+                found += [*expressions_in(body), *expressions_in(handler)]
+    return found
+
+
+def program_places(program):
+    return sum(places_in(expr) for expr in expressions_in(program[2]))
+
+
+def some_program(source, parameters=(), kept=(("c", "none"),), places=2, rows=5, levels=3):
+    """A program made by a source of random numbers, with at most so many event places and rows."""
+    names = [*parameters, *[name for name, _ in kept]]
+    left = [places, rows]
+
+    def expression():
+        expr = some_expression(source, source.randint(1, levels), names or ["none"], min(left[0], 2))
+        if not names:
+            for path, part in list(walk(expr)):
+                expr = replaced(expr, path, NONE) if part[0] == "name" else expr
+        left[0] -= places_in(expr)
+        return expr
+
+    def block(depth):
+        found = []
+        for _ in range(source.randint(0 if depth > 1 else 1, 4 if depth == 1 else 2)):
+            if left[1] > 0:
+                left[1] -= 1
+                found.append(row(depth))
+        return tuple(found)
+
+    def row(depth):
+        words = ["set"] * 4 * bool(kept) + ["give"] * (1 + (depth > 1)) + ["if", "if", "try", "try"] * (depth < 4)
+        word = source.choice(words)
+        if word == "set":
+            return (word, source.choice(kept)[0], expression())
+        if word == "give":
+            return (word, expression())
+        if word == "if":
+            return (word, expression(), block(depth + 1), block(depth + 1))
+        return (word, block(depth + 1), block(depth + 1))
+
+    return (tuple(parameters), tuple(kept), block(1))
+
+
+def answer(number):
+    """The value of an answer."""
+    return obj("event", number)
+
+
+def name(x):
+    """The value of a variable."""
+    return obj("name", x)
+
+
+def next_events(number, variables=("a",), most=2):
+    """All events that may stand at this place, over a few words and values."""
+    values = [NONE, *[name(x) for x in variables], *[answer(at) for at in range(number)]]
+    found = [("f", operands) for many in range(most + 1) for operands in itertools.product(values, repeat=many)]
+    return found + [("<", operands) for operands in itertools.product(values, repeat=2)]
+
+
+def bad_events():
+    """Values that are no lists of events, by each way in which they may fail to be one."""
+    f, g = ("f", ()), ("g", ())
+    bad = [value for value in no_values() if value != []]
+    bad += [(), (f,), {}, {0: f}, "f", f, [f] * 7, [None], [[]], [()], [("f",)], ["f"], [["f", ()]]]
+    bad += [[("f", (), ())], [("f", [])], [("f", None)], [("f", "a")], [("f", {})], [("f", NONE)], [((), "f")]]
+    words = ["", "F", "f1", "a b", "abcdefghi", "=", "<>", "is", "??", *BARRED]
+    bad += [[(word, ())] for word in words] + [[(word, (NONE, NONE))] for word in words]
+    bad += [[(word, ())] for word in [None, True, 0, ("f",), ["f"], {}, b"f"]]
+    bad += [[("f", (NONE,) * 4)], [("f", (NONE,) * 2000)]]
+    bad += [[(sign, (NONE,) * many)] for sign in SIGNS for many in (0, 1, 3)]
+    # Values that are none.
+    values = [*no_values(), (), ("name", "a"), ("event", 0), ("object",), ("object", None), ("object", ())]
+    values += [["none"], ("none", "none"), ("object", ["name", "a"]), ("object", ("name", "a"), NONE), ("Object", A)]
+    values += [("object", ("name",)), ("object", ("name", "a", "b")), ("object", ("name", "A")),
+        ("object", ("name", "if"))]
+    values += [("object", ("name", 0)), ("object", ("event",)), ("object", ("event", "0")), ("object", ("event", None))]
+    values += [("object", ("event", True)), ("object", ("event", False)), ("object", ("event", -1)), ("value", NONE)]
+    values += [("object", ("event", 10 ** 29)), ("object", ("names", "a")), ("object", (0, ("event", 0))),
+        ("objects", A)]
+    bad += [[f, ("g", (value,))] for value in values] + [[f, ("<", (NONE, value))] for value in values]
+    # Sources of the event itself, or of a later one.
+    bad += [[("f", (answer(0),))], [f, ("g", (answer(1),))], [f, ("g", (answer(2),)), g]]
+    bad += [[f, g, ("<", (answer(2), NONE))]]
+    # A fifth variable.
+    five = [("f", (name("a"), name("b"), name("c"))), ("g", (name("d"), name("e")))]
+    bad += [five, [("<", (name("e"), name("a"))), f, ("g", (name("b"), name("c"), name("d")))]]
+    return bad
+
+
+class CodeRun:
+    """One run of flat code: `events`, `outcome`, and how many `steps` are carried out."""
+
+    TAKES = {"compare": 2, "not": 1, "isnone": 1}
+
+    def __init__(self, code, kinds, answers):
+        self.kinds, self.answers, self.events, self.steps = kinds, answers, [], 0
+        stack, at = [], 0
+        while at < len(code):
+            self.steps += 1
+            at = self.step(code[at], stack, at)
+            if type(at) is tuple:
+                self.outcome = at
+                return
+        (value,) = stack
+        self.outcome = ("value", value)
+
+    def holds(self, test, value):
+        return {
+            "true": true_value(value, self.kinds, self.answers), "none": value == NONE,
+            "false": not true_value(value, self.kinds, self.answers), "given": value != NONE,
+        }[test]
+
+    def step(self, instruction, stack, at):
+        """The number of the next instruction, or the outcome."""
+        match instruction:
+            case ("name", x):
+                stack.append(NONE if self.kinds[x] == "n" else obj("name", x))
+            case ("none" | "true" | "false",):
+                stack.append(instruction)
+            case ("call", f, many):
+                return self.event(f, stack, many) or at + 1
+            case ("compare", sign):
+                return self.event(sign, stack, 2) or at + 1
+            case ("not",):
+                stack.append(FALSE if self.holds("true", stack.pop()) else TRUE)
+            case ("isnone",):
+                stack.append(TRUE if stack.pop() == NONE else FALSE)
+            case ("copy",):
+                stack += stack[-1:]
+            case ("pop",):
+                stack.pop()
+            case ("swap",):
+                stack[-2:] = [stack[-1], stack[-2]]
+            case ("under",):
+                stack[-3:] = [stack[-1], stack[-3], stack[-2]]
+            case ("jump", to):
+                return to
+            case ("jump_pop", test, to):
+                return to if self.holds(test, stack.pop()) else at + 1
+            case ("jump_keep", test, to):
+                if self.holds(test, stack[-1]):
+                    return to
+                stack.pop()
+        return at + 1
+
+    def event(self, word, stack, many):
+        number = len(self.events)
+        self.events.append((word, tuple(stack[len(stack) - many:])))
+        stack[len(stack) - many:] = []
+        if number >= len(self.answers):
+            return ("wanting",)
+        if self.answers[number] == "x":
+            return ("failed", number)
+        stack.append(NONE if self.answers[number] == "n" else obj("event", number))
+        return None
+
+
+def names_in_code(code):
+    return sorted({instruction[1] for instruction in code if instruction[0] == "name"})
+
+
+def events_in_code(code):
+    return sum(instruction[0] in ("call", "compare") for instruction in code)
+
+
+def ways(code):
+    """All pairs of an instruction that can be come to and a depth, by going all ways; None if values are missing."""
+    sizes = {"copy": (1, 2), "pop": (1, 0), "swap": (2, 2), "under": (3, 3), "not": (1, 1), "isnone": (1, 1)}
+    seen, waiting = set(), [(0, 0)]
+    while waiting:
+        at, depth = waiting.pop()
+        if (at, depth) in seen:
+            continue
+        seen.add((at, depth))
+        if at == len(code):
+            continue
+        match code[at]:
+            case ("jump", to):
+                waiting.append((to, depth))
+                continue
+            case ("jump_pop", _, to):
+                takes, following = 1, [(to, depth - 1), (at + 1, depth - 1)]
+            case ("jump_keep", _, to):
+                takes, following = 1, [(to, depth), (at + 1, depth - 1)]
+            case ("call", _, takes):
+                following = [(at + 1, depth - takes + 1)]
+            case ("compare", _):
+                takes, following = 2, [(at + 1, depth - 1)]
+            case (word, *_):
+                takes, gives = sizes.get(word, (0, 1))
+                following = [(at + 1, depth - takes + gives)]
+        if depth < takes:
+            return None
+        waiting += following
+    return seen
+
+
+def depths_in(code):
+    """The depths of all instructions and the end, or None if the ways in this list make no code."""
+    seen = ways(code)
+    if seen is None or len({at for at, _ in seen}) < len(seen) or (len(code), 1) not in seen:
+        return None
+    return [dict(seen).get(at) for at in range(len(code) + 1)]
+
+
+SETTLED = {"true": TESTS, "none": TESTS, "false": ("true", "false"), "given": ("none", "given")}
+
+
+def idle_jumps(code):
+    """The numbers of the idle jumps."""
+    found = []
+    for at, instruction in enumerate(code):
+        if not instruction[0].startswith("jump"):
+            continue
+        to = instruction[-1]
+        target = code[to] if to < len(code) else ("end",)
+        idle = instruction == ("jump", at + 1) or target[0] == "jump"
+        if instruction[0] == "jump_keep":
+            idle |= target[0] == "pop"
+            idle |= target[0] in ("jump_pop", "jump_keep") and target[1] in SETTLED[instruction[1]]
+        if idle:
+            found.append(at)
+    return found
+
+
+EXAMPLE_CODE = [("name", "a"), ("jump_keep", "false", 3), ("call", "f", 0), ("jump_keep", "true", 5), ("none",)]
+
+
+def bad_codes():
+    """Values that are no code, by each way in which they may fail to be it."""
+    a, pop = ("name", "a"), ("pop",)
+    bad = [*no_values(), (), [], {}, (a,), {0: a}, a, "none", [[*a]], [None], [a, None], [a, []], [()], [a, ()]]
+    # Wrong words and lengths.
+    words = ["names", "NAME", "", " none", "jumps", "jump pop", "jump_", "and", "or", "default", "if", "dup", "object"]
+    bad += [[(word,)] for word in words] + [[a, (word,)] for word in words]
+    bad += [[a, (word,)] for word in [None, True, 0, ("pop",), ["pop"], {}]]
+    shapes = {"none": 1, "true": 1, "false": 1, "not": 1, "isnone": 1, "copy": 1, "pop": 1, "swap": 1, "under": 1}
+    bad += [[a, a, a, (word, "a"), pop, pop, pop] for word in shapes] + [[a, (word, 1)] for word in shapes]
+    bad += [[("name",)], [("name", "a", "b")], [a, ("jump",)], [a, ("jump", 2, 2)], [a, ("jump_pop", "true"), a]]
+    bad += [[a, ("jump_pop", 2), a], [a, ("jump_pop", "true", 2, 2), a], [a, ("jump_keep", 3), a], [("call", "f")]]
+    bad += [[("call", "f", 0, 0)], [("call", "f", ())], [a, a, ("compare",)], [a, a, ("compare", "<", 2)], [("call",)]]
+    # Wrong names, signs, numbers and tests.
+    names = ["", "A", "aB", "a1", "a b", " a", "abcdefghi", *BARRED, None, True, 0, ("a",), ["a"], {"a": 1}]
+    bad += [[("name", name)] for name in names] + [[("call", name, 0)] for name in names]
+    bad += [[a, a, ("compare", sign)] for sign in ["", "=", "<>", "is", "??", "and", None, 0, ("<",), ["<"]]]
+    numbers = [None, True, False, "0", "1", (1,), [1], -1, 10 ** 29]
+    bad += [[a, ("call", "f", many)] for many in [*numbers, 2, 4]] + [[a] * 4 + [("call", "f", 4)]]
+    tests = ["", "True", "given ", "not", "is none", None, True, False, 0, ("true",), ["true"], "t"]
+    bad += [[a, ("jump_pop", test, 2), a] for test in tests] + [[a, ("jump_keep", test, 3), a] for test in tests]
+    # Targets that are not ahead, or beyond the end.
+    targets = [*numbers, 0, 1, 4, 5, 120]
+    bad += [[a, ("jump", to), ("not",)] for to in targets] + [[a, ("jump_keep", "true", to), a] for to in targets]
+    bad += [[a, ("jump_pop", "none", to), a] for to in targets] + [[a, ("jump", False)], [("jump", True), a]]
+    # Also where they cannot be come to.
+    dead = [("name", "A"), ("names",), ("call", "f", 4), ("compare", "="), ("jump", 2), ("jump", 9), ("jump", True)]
+    dead += [("jump_pop", "yes", 3), ("jump_keep", "true", 1), ("pop", 1), None, ["pop"]]
+    bad += [[a, ("jump", 3), instruction] for instruction in dead]
+    # Unequal depths.
+    bad += [[a, ("jump_keep", "true", 2)], [a, ("jump_keep", "true", 2), a], [a, a, ("jump_pop", "true", 4), a]]
+    bad += [[a, ("jump_pop", "true", 3), a, a], [a, a, ("jump_keep", "true", 4), pop],
+        [a, ("jump_keep", "none", 3), ("jump", 3)]]
+    # Too few values.
+    bad += [[word] for word in [pop, ("not",), ("isnone",), ("copy",), ("swap",), ("under",), ("compare", "<")]]
+    bad += [[a, ("swap",)], [a, ("compare", "<")], [a, a, ("under",), pop], [("call", "f", 1)], [a, ("call", "f", 2)]]
+    bad += [[a, a, ("call", "f", 3)], [("jump_pop", "true", 2), a], [("jump_keep", "true", 2), a], [pop, a]]
+    bad += [[a, pop, pop, a], [a, pop, ("jump", 4), a], [a, ("jump_pop", "true", 3), ("not",), a]]
+    # The end not come to with one value.
+    bad += [[("jump", 1)], [a, a], [a, pop], [a, ("copy",)], [a, ("jump", 2), a, a], [a, a, ("jump", 4), pop],
+        [a, a, a, pop]]
+    bad += [[("jump", 2), a], [("jump", 3), a, a], [a, pop, ("jump", 4), a]]
+    # Just beyond each bound, also where it cannot be come to.
+    bad += [[a] + [("not",)] * 120, [a] * 121, [a] + [("jump", at + 1) for at in range(1, 121)]]
+    calls = [("call", "f", 0), *[("call", "g", 1)] * 6]
+    bad += [calls, [a, *[("copy",), ("compare", "<")] * 7], [*calls[:6], ("copy",), ("compare", "<")]]
+    bad += [[*calls[:6], ("jump", 8), ("call", "f", 0)], [a, ("jump", 16), *[("copy",), ("compare", "<")] * 7]]
+    five = [("name", name) for name in "abcde"]
+    bad += [[*five, pop, pop, pop, pop], [*five[:4], pop, pop, pop, ("jump", 9), five[4]], [a, ("jump", 6), *five[1:]]]
+    return bad
+
+
+def right_codes():
+    """Code with each instruction, and at the bounds."""
+    a, b, none, pop = ("name", "a"), ("name", "b"), ("none",), ("pop",)
+    right = [EXAMPLE_CODE, [a], [none], [("true",)], [("false",)], [("call", "f", 0)], [a, ("not",)], [a, ("isnone",)]]
+    right += [[a, b, ("compare", sign)] for sign in SIGNS] + [[a, ("call", "f", 1)], [a, b, none, ("call", "f", 3)]]
+    right += [[a, b, pop], [a, b, ("swap",), pop], [a, b, none, ("under",), pop, pop],
+        [a, ("copy",), ("compare", "==")]]
+    right += [[a, b, none, ("under",), ("call", "f", 3)], [a, b, ("swap",), ("call", "f", 2)], [b, a, ("call", "f", 2)]]
+    for test in TESTS:
+        right += [[a, ("jump_pop", test, 4), b, ("jump", 5), none], [a, ("jump_keep", test, 3), b],
+            [a, b, ("jump_pop", test, 3)]]
+        right += [[("call", "f", 0), ("jump_pop", test, 4), b, ("jump", 5), none],
+            [("call", "f", 0), ("jump_keep", test, 3), b]]
+        right += [[constant, ("jump_pop", test, 4), b, ("jump", 5), a] for constant in [none, ("true",), ("false",)]]
+        right += [[constant, ("jump_keep", test, 3), b] for constant in [none, ("true",), ("false",)]]
+    # What cannot be come to: there any depth is right.
+    right += [[a, ("jump", 3), pop], [a, ("jump", 4), ("under",), b], [("jump", 2), ("compare", "<"), a]]
+    right += [[a, ("jump", 5), ("jump_keep", "true", 3), ("jump_pop", "none", 4), ("call", "f", 3)]]
+    right += [[a, ("jump", 4), none, b], [("jump", 3), ("swap",), ("name", "c"), ("name", "d")]]
+    right += [[("jump", 1), a, ("jump", 3)], [("jump", 1), ("jump", 2), ("jump", 3), none]]
+    # At the bounds.
+    right += [[a] + [("not",)] * 119, [a] * 60 + [pop] * 59 + [("not",)],
+        [a] + [("jump", at + 1) for at in range(1, 120)]]
+    right += [[("call", "f", 0), *[("call", "g", 1)] * 5], [a, *[("copy",), ("compare", "<")] * 6]]
+    right += [[a, ("jump", 8), *[("call", "f", 0)] * 6], [*[("name", name) for name in "abcd"], pop, pop, pop]]
+    return right + [[("name", "abcdefgh"), ("call", "abcdefgh", 1)]]
+
+
+def some_code(source, length, names="ab", places=3):
+    """Code made by a source of random numbers, often with idle jumps and parts that cannot be come to."""
+    while True:
+        code = code_try(source, length, names, places)
+        if depths_in(code) is not None:
+            return code
+
+
+def code_try(source, length, names, places):
+    depths, code, left = {0: 0}, [], places
+    for at in range(length):
+        depth = depths.get(at, source.randint(0, 2))
+        words = ["name", "none", "true", "false"] * (depth < 3) + ["jump"] * 3
+        words += ["not", "isnone", "copy", "pop", "jump_pop", "jump_pop", "jump_keep", "jump_keep"] * (depth > 0)
+        words += ["swap"] * (depth > 1) + ["under"] * (depth > 2)
+        words += (["call"] * 2 + ["compare"] * (depth > 1)) * (left > 0)
+        word = source.choice(words)
+        after = depth
+        if word == "name":
+            instruction, after = (word, source.choice(names)), depth + 1
+        elif word == "call":
+            many = source.randint(0, min(depth, 3))
+            instruction, after, left = (word, source.choice("fg"), many), depth - many + 1, left - 1
+        elif word == "compare":
+            instruction, after, left = (word, source.choice(SIGNS)), depth - 1, left - 1
+        elif word.startswith("jump"):
+            to = source.randint(at + 1, min(length, at + 5))
+            instruction = (word, to) if word == "jump" else (word, source.choice(TESTS), to)
+            after = None if word == "jump" else depth - 1
+            if depths.setdefault(to, depth - (word == "jump_pop")) != depth - (word == "jump_pop"):
+                return [("pop",)]
+        else:
+            instruction = (word,)
+            after = depth + {"copy": 1, "pop": -1, "none": 1, "true": 1, "false": 1}.get(word, 0)
+        code.append(instruction)
+        if after is not None and depths.setdefault(at + 1, after) != after:
+            return [("pop",)]
+    return code
+
+
+class Grammar:
+    """Which lists of events expressions make, by going through all ways to build an expression.
+
+    The answers whose numbers are in `held` stand for themselves, like variables.
+    """
+
+    def __init__(self, events, held=()):
+        self.events, self.held = events, held
+        self.known = {}
+
+    def once(self, method, *args):
+        key = (method.__name__, *args)
+        if key not in self.known:
+            self.known[key] = method(*args)
+        return self.known[key]
+
+    def makes(self, low, high, value):
+        """Whether an expression makes the events from low up to high, and then this value."""
+        return self.once(self.value, low, high, value)
+
+    def value(self, low, high, value):
+        if value[0] != "object" or value[1][0] == "name" or value[1][1] in self.held:
+            return self.once(self.dropped, low, high)
+        if low == high or value[1][1] != high - 1:
+            return False
+        return any(self.once(self.dropped, low, at) and self.once(self.term, at, high) for at in range(low, high))
+
+    def dropped(self, low, high):
+        """Whether expressions one behind the other make the events, whatever their values are."""
+        if low == high:
+            return True
+        return any(self.once(self.dropped, low, at) and self.once(self.term, at, high) for at in range(low, high))
+
+    def term(self, low, high):
+        """Whether a call or a comparison makes the events, its own event as the last one."""
+        word, values = self.events[high - 1]
+        if self.once(self.operands, low, high - 1, values):
+            return True
+        return word in SIGNS and any(
+            self.events[at][0] in SIGNS and self.events[at][1][1] == values[0]
+            and self.once(self.term, low, at + 1) and self.makes(at + 1, high - 1, values[1])
+            for at in range(low, high - 1)
+        )
+
+    def operands(self, low, high, values):
+        if not values:
+            return low == high
+        return any(
+            self.makes(low, at, values[0]) and self.once(self.operands, at, high, values[1:])
+            for at in range(low, high + 1)
+        )
+
+    def possible(self):
+        return self.makes(0, len(self.events), NONE)
 
 
 WORDS = ("name", "none", "true", "false", "not", "isnone", "and", "or", "default", "if", "call", "compare")

@@ -17,26 +17,6 @@ def samples():
     return [*list(helper.small_expressions())[::7], *helper.some_expressions(10, 40, levels=4, places=4)]
 
 
-def least_parting(one, other, same):
-    """The first input, in order, for which the same outcome is not told: by going through all."""
-    most = max(helper.places_in(one), helper.places_in(other))
-    for kinds in helper.worlds(helper.names_in(one, other)):
-        for answers in helper.answer_lists(most):
-            if not same(told(one, kinds, answers), told(other, kinds, answers), kinds, answers):
-                return (kinds, answers)
-    return None
-
-
-def equal(one, other, kinds, answers):
-    return one == other
-
-
-def equal_truth(one, other, kinds, answers):
-    if one[0] != other[0] or not one[1][0] == other[1][0] == "value":
-        return one == other
-    return helper.true_value(one[1][1], kinds, answers) == helper.true_value(other[1][1], kinds, answers)
-
-
 class CallTreeTest(Case):
     def test_small_ones(self):
         done = ("done", NONE)
@@ -169,7 +149,7 @@ class PartingTest(Case):
             self.assertIsNone(parting_test(one, other))
             self.assertIsNone(parting_test(other, one))
             found = parting(one, other)
-            self.assertEqual(found, least_parting(one, other, equal))
+            self.assertEqual(found, helper.least_parting(one, other, helper.equal))
             if answers is not None:
                 self.assertEqual(found, ({}, answers))
 
@@ -195,8 +175,8 @@ class PartingTest(Case):
 
     def check_least(self, one, other):
         for first, second in [(one, other), (other, one)]:
-            self.assertEqual(parting(first, second), least_parting(first, second, equal))
-            self.assertEqual(parting_test(first, second), least_parting(first, second, equal_truth))
+            self.assertEqual(parting(first, second), helper.least_parting(first, second, helper.equal))
+            self.assertEqual(parting_test(first, second), helper.least_parting(first, second, helper.equal_truth))
 
     def test_the_least_input_of_all(self):
         exprs = helper.some_expressions(11, 70, levels=4, names="ab", places=2)
