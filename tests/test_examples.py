@@ -2,8 +2,14 @@
 
 import unittest
 
+from keptops.errors import NoExpressionFor
 from keptops.evaluation import evaluate
+from keptops.flat import depths, run_code
 from keptops.forms import mergings
+from keptops.logs import expression_of, open_answers
+from keptops.pairs import compare_programs
+from keptops.programs import play
+from keptops.schemes import breaking, senses
 from keptops.texts import expression_text, read_expression
 from keptops.trees import parting, parting_test
 
@@ -26,6 +32,43 @@ class ExamplesTest(unittest.TestCase):
         found = [mergings(read_expression('f(a, b)'), read_expression('f(b, a)'))]
         found += [mergings(read_expression('a'), read_expression('none'))]
         self.assertEqual(repr(found), "[[(('a', 'b'),)], []]")
+
+    def test_schemes(self):
+        scheme = (read_expression('p() and (p() or q())'), read_expression('p()'))
+        self.assertEqual(repr([senses(scheme), breaking(scheme, 'value')]), "[('pure', 'pure test'), ({}, ['t'])]")
+
+    def test_logs(self):
+        f, g = ('f', ()), ('g', ())
+        first, second = ('object', ('event', 0)), ('object', ('event', 1))
+        found = [open_answers([f, g]), open_answers([f, g, ('h', (second,))])]
+        found += [open_answers([f, g, ('h', (first, ('none',)))])]
+        self.assertEqual(repr(found), "[[0, 1], [0, 2], [2]]")
+        with self.assertRaises(NoExpressionFor) as caught:
+            expression_of([('f', ()), ('g', ()), ('h', (first,))], ('none',))
+        self.assertEqual(caught.exception.index, 2)
+
+    def test_flat_code(self):
+        code = [('name', 'a'), ('jump_keep', 'false', 3), ('call', 'f', 0), ('jump_keep', 'true', 5), ('none',)]
+        self.assertEqual(repr([depths(code), run_code(code, {'a': 't'}, ['f'])]),
+                         "[[0, 1, 0, 1, 0, 1], ([('f', ())], ('value', ('none',)))]")
+
+    def test_programs(self):
+        p = program(('if', read_expression('c is none'), (('set', 'c', read_expression('load()')),), ()))
+        self.assertEqual(
+            repr(play(p, [((), ['x']), ((), ['t']), ((), [])])),
+            "[([('load', ())], ('failed', 0), (('none',),)), "
+            "([('load', ())], ('value', ('object', (1, ('event', 0)))), (('object', (1, ('event', 0))),)), "
+            "([], ('value', ('object', (1, ('event', 0)))), (('object', (1, ('event', 0))),))]",
+        )
+        q = program(('set', 'c', read_expression('c or load()')))
+        r = program(('set', 'c', read_expression('c ?? load()')))
+        self.assertEqual(repr([compare_programs(p, q), compare_programs(p, r)[0]]),
+                         "[('unlike', [((), ['f']), ((), [])]), 'alike']")
+
+
+def program(row):
+    """`program keep c none`, a row, and `give c`."""
+    return ((), (('c', 'none'),), (row, ('give', ('name', 'c'))))
 
 
 if __name__ == "__main__":

@@ -23,6 +23,22 @@ INTERFACE = {
         "paths(expr)", "part_of(expr, path)", "with_part(expr, path, other)", "pruned(expr)",
         "first_reach(expr, path)", "first_result(expr, path)", "origin(expr, kinds, answers)",
     ],
+    "schemes": [
+        "check_scheme(scheme)", "breaking(scheme, sense)", "senses(scheme)", "put(expr, parts)",
+        "use(scheme, backwards, expr, path, as_test)", "is_test(expr, path, as_test)",
+        "check_chain(expr, steps, end, as_test)",
+    ],
+    "logs": ["open_answers(events)", "expression_of(events, value)"],
+    "keeping": ["least_program(events)"],
+    "flat": [
+        "check_code(code)", "depths(code)", "run_code(code, kinds, answers)", "count_steps(code, kinds, answers)",
+    ],
+    "compiling": ["compile_expression(expr)", "threaded(code)", "code_parting(code, expr)"],
+    "programs": ["check_program(program)", "play(program, history)"],
+    "pairs": ["compare_programs(one, other)", "table_error(one, other, table)"],
+    "facts": [
+        "row_history(program, row)", "holding_history(program, row, x, look)", "same_history(program, row, x, y)",
+    ],
 }
 
 
