@@ -221,9 +221,14 @@ def is_call(value, program):
     return all([kind in KINDS for kind in kinds]) and all([answer in ANSWERS for answer in answers])
 
 
+def is_history(program, value):
+    """Whether this is a history for the program, or for a machine."""
+    return isinstance(value, list) and all([is_call(call, program) for call in value])
+
+
 def check_history(program, history):
-    """Raise InvalidHistory if the value is not a history for the program."""
-    if not isinstance(history, list) or not all([is_call(value, program) for value in history]):
+    """Raise InvalidHistory if the value is not a history for the program, or for a machine."""
+    if not is_history(program, history):
         raise InvalidHistory("this is no list of calls of the program")
 
 

@@ -8,7 +8,7 @@ once for kinds of the kept names, and then told for each state with these kinds:
 from keptops.evaluation import KINDS, holds_of
 from keptops.exprs import variables_of
 from keptops.programs import kept_names, steps_of
-from keptops.states import CONSTANT_KINDS
+from keptops.states import CONSTANT_KINDS, Reached, begin_state, kinds_of, state_of, values_of
 from keptops.trees import tree_of
 
 
@@ -58,6 +58,7 @@ class Survey:
     def __init__(self, program, row):
         self.parameters = program[0]
         self.names = kept_names(program)
+        self.begin = begin_state([program])
         self.row = row
         self.steps = steps_of(program)
         self.names_by_row = [[] if step.expr is None else variables_of([step.expr]) for step in self.steps]
@@ -76,6 +77,30 @@ class Survey:
         if key not in self.found:
             self.found[key] = self._all_moments(kept_kinds, kinds)
         return self.found[key]
+
+    def state_at(self, moment, state):
+        """The state at the end of a call that began behind another state."""
+        return state_of(held_with(moment.holds, self.names, values_of(state)))
+
+    def complete_calls(self, state):
+        """The complete calls behind a state in order, each in a tuple with the state at its end."""
+        return [
+            ((kinds, answers), self.state_at(moment, state))
+            for kinds in self.all_kinds
+            for answers, moment in self.moments(kinds_of(state), kinds).items()
+            if moment.holds is not None
+        ]
+
+    def reached(self):
+        """All states that come behind complete calls, each with the least history that leads to it."""
+        reached = Reached(self.begin)
+        at = 0
+        while at < len(reached.states):
+            state = reached.states[at]
+            for call, following in self.complete_calls(state):
+                reached.add(following, state, call)
+            at += 1
+        return reached
 
     def _all_moments(self, kept_kinds, kinds):
         holds = {}

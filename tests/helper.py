@@ -367,8 +367,38 @@ def lively_program(source, parameters, kept, places):
             rows.append((word, expression(), sets(source.randint(0, 2)), sets(source.randint(0, 1))))
         else:
             rows.append((word, sets(source.randint(1, 2)), sets(source.randint(0, 1))))
-    value = source.choice([*names, call("h", *names)] if left[0] else names)
+    value = source.choice([*names, call("h", *names[:3])] if left[0] else names)
     return (tuple(parameters), tuple(kept), (*rows, ("give", value)))
+
+
+def keeping_program(source, parameters, kept, places):
+    """A program that mostly keeps objects over several calls, hands them on, and shows some of them."""
+    names, left = [("name", name) for name, _ in kept], [places]
+
+    def new():
+        if left[0] > 0 and source.random() < 0.6:
+            left[0] -= 1
+            return call(source.choice("fg"), *source.sample(names, source.choice([0, 0, 1]) * bool(names)))
+        return source.choice([*[("name", name) for name in parameters] * 3, *names, NONE])
+
+    def test():
+        return source.choice([*[("name", name) for name in parameters] * 2, *names,
+            ("isnone", source.choice(names))])
+
+    def row():
+        x, y = source.choice(names), source.choice(names)
+        return source.choice([
+            lambda: ("set", x[1], ("default", x, new())), lambda: ("set", x[1], ("if", test(), x, new())),
+            lambda: ("set", x[1], ("or", y, new())), lambda: ("set", x[1], y), lambda: ("set", x[1], new()),
+            lambda: ("if", test(), (("set", x[1], new()),), (("set", y[1], x),)),
+            lambda: ("if", test(), (("give", x),), ()), lambda: ("try", (("set", x[1], new()),), (("set", x[1], y),)),
+        ])()
+
+    rows = [row() for _ in range(source.randint(2, 5))]
+    shown = source.sample(names, min(len(names), source.randint(1, 2)))
+    rows.append(("give", source.choice([shown[0], ("if", test(), *(shown * 2)[:2]),
+        call("h", *shown) if left[0] else shown[0]])))
+    return (tuple(parameters), tuple(kept), tuple(rows))
 
 
 def bad_programs():
@@ -530,6 +560,132 @@ def states_that_come(programs):
                 found[behind] = [*found[state], call]
                 order.append(behind)
     return found
+
+
+def some_history(source, program, many):
+    """A history of so many complete calls, made by a source of random numbers."""
+    history, played = [], Played(program, [])
+    for number in range(many):
+        kinds, answers = tuple(source.choice(KINDS) for _ in program[0]), []
+        while True:
+            found = ProgramCall(program, number, played.holds, dict(played.kinds), (kinds, answers))
+            if found.complete:
+                break
+            answers.append(source.choice("ttffnx"))
+        history.append((kinds, answers))
+        played.go_on(history[-1])
+    return history
+
+
+def further_calls(program, history, most):
+    """All lists of up to so many further calls in order, each with what is played of the last one.
+
+    All calls ahead of the last one are complete.
+    """
+    played = Played(program, history)
+    level = [([], played.holds, played.kinds)]
+    for many in range(most):
+        longer = []
+        for calls, holds, kinds in level:
+            for call in all_calls(program):
+                found = ProgramCall(program, len(history) + many, holds, dict(kinds), call)
+                yield [*calls, call], found
+                if found.complete:
+                    names = [name for name, _ in program[1]]
+                    longer.append(([*calls, call], dict(zip(names, found.held)), found.kinds))
+        level = longer
+
+
+def shows(played, source):
+    """Whether an object comes out of a call that is played, or is an operand of an event in it."""
+    shown = [value for _, values in played.events for value in values]
+    shown += [played.outcome[1]] if played.outcome[0] == "value" else []
+    return ("object", source) in shown
+
+
+def ever_shown(program, state, number):
+    """Whether further calls show an object of a state, by a look at all states that come behind it."""
+    seen, waiting = {(state, number)}, [(state, number)]
+    while waiting:
+        state, number = waiting.pop()
+        source = (-1, ("event", number))
+        for _, (played,) in calls_from([program], state):
+            call = played.calls[-1]
+            if shows(call, source):
+                return True
+            if call.complete and ("object", source) in call.held:
+                behind = state_behind(played)
+                key = (behind, behind[call.held.index(("object", source))][0])
+                if key not in seen:
+                    seen.add(key)
+                    waiting.append(key)
+    return False
+
+
+def needed_in(program, state):
+    """The numbers of the objects of a state that are needed."""
+    numbers = sorted({entry[0] for entry in state if isinstance(entry, tuple)})
+    return [number for number in numbers if ever_shown(program, state, number)]
+
+
+def objects_behind(program, history):
+    """The sources of the objects that kept names hold, in the order of their numbers in the state."""
+    return list(dict.fromkeys(value[1] for value in Played(program, history).holds.values() if value[0] == "object"))
+
+
+def too_many_places():
+    """Programs that are not small, for each number of parameters; and programs at the bound."""
+    def of(parameters, places):
+        rows = tuple(("if", call("f"), (), ()) for _ in range(places))
+        return (tuple("pq"[:parameters]), (("c", "none"),), (*rows, ("give", C)))
+
+    links = ((), (("c", "none"),), (("give", compare(C, *[("<", C)] * 4)),))
+    beyond = [of(*many) for many in [(0, 4), (1, 3), (2, 2), (0, 6), (2, 6)]] + [links]
+    return beyond, [of(*many) for many in [(0, 3), (1, 2), (2, 1), (2, 0)]]
+
+
+def bad_histories(kinds):
+    """Values that are no histories for a program with so many parameters."""
+    good = (kinds, [])
+    bad = [value for value in no_values() if value != []]
+    bad += [(), (good,), {}, {0: good}, good, [[*good]], [(kinds,)], [(kinds, [], [])], [kinds], [([], kinds)],
+        [None], [[]]]
+    bad += [[(list(kinds), [])], [("t" * len(kinds), [])], [(kinds + ("t",), [])], [(None, [])], [({}, [])],
+        [({"p": "t"}, [])]]
+    if kinds:
+        bad += [[(kinds[1:], [])], [((), [])]]
+        wrong = [None, True, 0, "x", "T", "", "tf", "true", ("t",), ["t"], {}]
+        bad += [[((kind, *kinds[1:]), [])] for kind in wrong] + [[((*kinds[:-1], kind), [])] for kind in wrong]
+    bad += [[(kinds, answers)] for answers in [None, (), ("t",), "t", "", {}, {"t": 1}, 0, True]]
+    bad += [[(kinds, [answer])] for answer in [None, True, 0, "q", "T", "", "tt", ("t",), ["t"], {}]]
+    bad += [[(kinds, ["t", "t", "t", "q"])], [(kinds, ["t", None])]]
+    return bad
+
+
+def large_variable(name):
+    """40 expressions that are alike to a variable."""
+    some = joined([("not", ("name", x)) for x in "abcdab"])
+    return ("if", some, ("name", name), ("if", ("isnone", some), ("name", name), ("name", name)))
+
+
+def large_programs():
+    """Small programs at the bounds: four kept names, three event places, 30 rows, and objects that go around."""
+    kept = tuple((name, "none") for name in "abcd")
+    rows = tuple(("set", name, large_variable(name)) for name in "abcd" * 7)
+    shift = (("set", "d", C), ("set", "c", B), ("set", "b", A), ("try", (("set", "a", call("g")),),
+        (("set", "a", FALSE),)))
+    swap = (("set", "d", A), ("set", "a", B), ("set", "b", D))
+    turn = (("set", "d", A), ("set", "a", B), ("set", "b", C), ("set", "c", D))
+    programs = []
+    for asked in (call("h"), call("h", A, B, C)):
+        inner = ("if", call("f"), shift, (("if", asked, (("set", "d", A), ("set", "a", TRUE)), swap),))
+        programs.append(((), kept, (("try", (inner,), turn), *rows[:11], ("give", D))))
+    tries = tuple(("try", (("set", name, call(word)),), ()) for name, word in zip("abc", "fgh"))
+    programs.append(((), kept, (*tries, *rows[:24])))
+    looks = tuple(("set", name, ("if", ("name", name), ("name", "p"), call("f") if at == 20 else ("name", "q")))
+                  for at, name in enumerate("abcd" * 7 + "a"))
+    programs.append((("p", "q"), kept, (*looks, ("give", B))))
+    return programs
 
 
 def all_calls(program, most=None):

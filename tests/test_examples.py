@@ -2,11 +2,14 @@
 
 import unittest
 
+from keptops.counts import check_most, most_events
 from keptops.errors import NoExpressionFor
 from keptops.evaluation import evaluate
 from keptops.flat import depths, run_code
 from keptops.forms import mergings
+from keptops.likes import least_like
 from keptops.logs import expression_of, open_answers
+from keptops.needs import most_needed
 from keptops.pairs import compare_programs
 from keptops.programs import play
 from keptops.schemes import breaking, senses
@@ -64,6 +67,14 @@ class ExamplesTest(unittest.TestCase):
         r = program(('set', 'c', read_expression('c ?? load()')))
         self.assertEqual(repr([compare_programs(p, q), compare_programs(p, r)[0]]),
                          "[('unlike', [((), ['f']), ((), [])]), 'alike']")
+
+    def test_what_is_kept(self):
+        p = program(('if', read_expression('c is none'), (('set', 'c', read_expression('load()')),), ()))
+        found = [least_like(p, [((), ['x']), ((), ['n']), ((), ['f']), ((), [])]), most_needed(p)]
+        self.assertEqual(repr(found), "[([((), ['t'])], [((0, ('event', 0)), (2, ('event', 0)))]), (1, [((), ['t'])])]")
+        levels = [(('none',), 1), (((0, 't'),), 0), (((0, 'f'),), 0)]
+        found = [most_events(p, 'load')[0], check_most(p, 'load', ('most', 1, [((), ['t'])], levels), ('t', 'f'))]
+        self.assertEqual(repr(found), "['endless', True]")
 
 
 def program(row):

@@ -39,6 +39,13 @@ INTERFACE = {
     "facts": [
         "row_history(program, row)", "holding_history(program, row, x, look)", "same_history(program, row, x, y)",
     ],
+    "needs": ["needed(program, history)", "most_needed(program)"],
+    "likes": ["least_like(program, history)"],
+    "machines": ["run_machine(machine, history)", "machine(program)"],
+    "counts": [
+        "most_events(program, word, answers=('t', 'f', 'n', 'x'))",
+        "check_most(program, word, answer, answers=('t', 'f', 'n', 'x'))",
+    ],
 }
 
 

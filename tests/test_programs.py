@@ -260,34 +260,17 @@ class LeastProgramTest(Case):
 
 
 class HistoryTest(Case):
-    def bad_histories(self, kinds):
-        """Values that are no histories for a program with so many parameters."""
-        good = (kinds, [])
-        bad = [value for value in helper.no_values() if value != []]
-        bad += [(), (good,), {}, {0: good}, good, [[*good]], [(kinds,)], [(kinds, [], [])], [kinds], [([], kinds)],
-            [None], [[]]]
-        bad += [[(list(kinds), [])], [("t" * len(kinds), [])], [(kinds + ("t",), [])], [(None, [])], [({}, [])],
-            [({"p": "t"}, [])]]
-        if kinds:
-            bad += [[(kinds[1:], [])], [((), [])]]
-            wrong = [None, True, 0, "x", "T", "", "tf", "true", ("t",), ["t"], {}]
-            bad += [[((kind, *kinds[1:]), [])] for kind in wrong] + [[((*kinds[:-1], kind), [])] for kind in wrong]
-        bad += [[(kinds, answers)] for answers in [None, (), ("t",), "t", "", {}, {"t": 1}, 0, True]]
-        bad += [[(kinds, [answer])] for answer in [None, True, 0, "q", "T", "", "tt", ("t",), ["t"], {}]]
-        bad += [[(kinds, ["t", "t", "t", "q"])], [(kinds, ["t", None])]]
-        return bad
-
     def test_no_histories(self):
         for parameters in [(), ("p",), ("p", "q")]:
             kinds = ("t", "f")[:len(parameters)]
             for program in [(parameters, (), ()), (parameters, kept("a"), (("set", "a", F), ("give", A)))]:
-                for history in self.bad_histories(kinds):
+                for history in helper.bad_histories(kinds):
                     self.check_error(InvalidHistory, play, program, history)
 
     def test_also_behind_a_call_that_is_wanting(self):
         program = (("p",), kept("a"), (("set", "a", F), ("give", A)))
         self.assertEqual(len(play(program, [(("t",), []), (("t",), ["t"])])), 1)
-        for history in self.bad_histories(("n",)):
+        for history in helper.bad_histories(("n",)):
             if isinstance(history, list):
                 self.check_error(InvalidHistory, play, program, [(("t",), []), *history])
                 self.check_error(InvalidHistory, play, program, [*history, (("t",), [])])
