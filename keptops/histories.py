@@ -21,10 +21,10 @@ def held_behind(program, history):
         events, outcome, holds = run_call(program, number, holds, call)
         if not is_complete(events, outcome, call):
             raise InvalidHistory("a call is not complete")
-    return [_with_kind(holds[name]) for name in kept_names(program)]
+    return [with_kind(holds[name]) for name in kept_names(program)]
 
 
-def _with_kind(held):
+def with_kind(held):
     """A value that is held with its kind, in the place of its truth."""
     value, truth = held
     if value[0] != "object":

@@ -42,11 +42,21 @@ def _pair_of(one, other):
     """The two programs as a pair; raise InvalidProgram, InvalidPair or TooMany if they are none."""
     check_program(one)
     check_program(other)
+    check_as_many(one, other)
+    check_comparable(one, other)
+    return Pair(one, other)
+
+
+def check_as_many(one, other):
+    """Raise InvalidPair if two programs have different numbers of parameters."""
     if len(one[0]) != len(other[0]):
         raise InvalidPair("the programs have different numbers of parameters")
+
+
+def check_comparable(one, other):
+    """Raise TooMany if two programs are not compared."""
     if len(one[1]) + len(other[1]) > MOST_KEPT or not is_small(one) or not is_small(other):
         raise TooMany("a program is not small, or both keep too many names")
-    return Pair(one, other)
 
 
 def compare_programs(one, other):

@@ -577,17 +577,17 @@ def some_history(source, program, many):
     return history
 
 
-def further_calls(program, history, most):
+def further_calls(program, history, most, places=None):
     """All lists of up to so many further calls in order, each with what is played of the last one.
 
-    All calls ahead of the last one are complete.
+    All calls ahead of the last one are complete; each one has at most so many answers as there are places.
     """
     played = Played(program, history)
     level = [([], played.holds, played.kinds)]
     for many in range(most):
         longer = []
         for calls, holds, kinds in level:
-            for call in all_calls(program):
+            for call in all_calls(program, places):
                 found = ProgramCall(program, len(history) + many, holds, dict(kinds), call)
                 yield [*calls, call], found
                 if found.complete:

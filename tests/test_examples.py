@@ -1,4 +1,4 @@
-"""The examples of the document, as far as the program goes."""
+"""The examples of the document, all of them."""
 
 import unittest
 
@@ -12,9 +12,12 @@ from keptops.logs import expression_of, open_answers
 from keptops.needs import most_needed
 from keptops.pairs import compare_programs
 from keptops.programs import play
+from keptops.progtexts import read_program
+from keptops.runs import Run
 from keptops.schemes import breaking, senses
 from keptops.texts import expression_text, read_expression
 from keptops.trees import parting, parting_test
+from keptops.values import Expr
 
 
 class ExamplesTest(unittest.TestCase):
@@ -56,30 +59,45 @@ class ExamplesTest(unittest.TestCase):
                          "[[0, 1, 0, 1, 0, 1], ([('f', ())], ('value', ('none',)))]")
 
     def test_programs(self):
-        p = program(('if', read_expression('c is none'), (('set', 'c', read_expression('load()')),), ()))
+        p = read_program('program keep c none\nif c is none then\n  set c load()\nend\ngive c\n')
         self.assertEqual(
             repr(play(p, [((), ['x']), ((), ['t']), ((), [])])),
             "[([('load', ())], ('failed', 0), (('none',),)), "
             "([('load', ())], ('value', ('object', (1, ('event', 0)))), (('object', (1, ('event', 0))),)), "
             "([], ('value', ('object', (1, ('event', 0)))), (('object', (1, ('event', 0))),))]",
         )
-        q = program(('set', 'c', read_expression('c or load()')))
-        r = program(('set', 'c', read_expression('c ?? load()')))
+
+    def test_what_is_kept(self):
+        p = read_program('program keep c none\nif c is none then\n  set c load()\nend\ngive c\n')
+        found = [least_like(p, [((), ['x']), ((), ['n']), ((), ['f']), ((), [])]), most_needed(p)]
+        self.assertEqual(repr(found), "[([((), ['t'])], [((0, ('event', 0)), (2, ('event', 0)))]), (1, [((), ['t'])])]")
+
+    def test_pairs(self):
+        p = read_program('program keep c none\nif c is none then\n  set c load()\nend\ngive c\n')
+        q = read_program('program keep c none\nset c c or load()\ngive c\n')
+        r = read_program('program keep c none\nset c c ?? load()\ngive c\n')
         self.assertEqual(repr([compare_programs(p, q), compare_programs(p, r)[0]]),
                          "[('unlike', [((), ['f']), ((), [])]), 'alike']")
 
-    def test_what_is_kept(self):
-        p = program(('if', read_expression('c is none'), (('set', 'c', read_expression('load()')),), ()))
-        found = [least_like(p, [((), ['x']), ((), ['n']), ((), ['f']), ((), [])]), most_needed(p)]
-        self.assertEqual(repr(found), "[([((), ['t'])], [((0, ('event', 0)), (2, ('event', 0)))]), (1, [((), ['t'])])]")
+    def test_counts(self):
+        p = read_program('program keep c none\nif c is none then\n  set c load()\nend\ngive c\n')
         levels = [(('none',), 1), (((0, 't'),), 0), (((0, 'f'),), 0)]
         found = [most_events(p, 'load')[0], check_most(p, 'load', ('most', 1, [((), ['t'])], levels), ('t', 'f'))]
         self.assertEqual(repr(found), "['endless', True]")
 
+    def test_values(self):
+        e = Expr.variable('a') & ~Expr.read('f(b)') | None
+        self.assertEqual(repr([e.text, len(e), e.variables, Expr.read('f(b)') in e, e[(0, 1)].text]),
+                         "['a and not f(b) or none', 7, ('a', 'b'), True, 'not f(b)']")
 
-def program(row):
-    """`program keep c none`, a row, and `give c`."""
-    return ((), (('c', 'none'),), (row, ('give', ('name', 'c'))))
+    def test_runs(self):
+        p = read_program('program keep c none\nif c is none then\n  set c load()\nend\ngive c\n')
+        run = Run(p)
+        first = run((), ['n'])
+        second = run((), ['t'])
+        self.assertEqual(repr([first, len(run), run.holding()]),
+                         "[([('load', ())], ('value', ('none',))), 2, (('object', (1, ('event', 0))),)]")
+        self.assertEqual(second, ([('load', ())], ('value', ('object', (1, ('event', 0))))))
 
 
 if __name__ == "__main__":

@@ -46,6 +46,30 @@ INTERFACE = {
         "most_events(program, word, answers=('t', 'f', 'n', 'x'))",
         "check_most(program, word, answer, answers=('t', 'f', 'n', 'x'))",
     ],
+    "progtexts": ["program_text(program)", "read_program(text)"],
+    "runs": ["attempt(run, calls)"],
+}
+# What stands in the body of each class: methods with their arguments, and operators, of which the names of the
+# arguments are free.
+CLASSES = {
+    ("values", "Expr(data)"): (
+        ["canonical(self)", "alike(self, other)", "choose(self, yes, no)", "default(self, other)", "is_none(self)",
+            "compare(self, *links)", "implies(self, other)", "runs(self, **kinds)",
+            "__call__(self, kinds, answers=())"],
+        ["__and__", "__rand__", "__or__", "__ror__", "__invert__", "__eq__", "__contains__", "__len__", "__getitem__"],
+        ["data", "text", "variables", "pure"],
+        {"read(cls, text)": classmethod, "variable(x)": staticmethod, "constant(value)": staticmethod,
+            "call(f, *operands)": staticmethod},
+    ),
+    ("runs", "Run(program)"): (
+        ["holding(self)", "copy(self)", "undo(self)", "same_future(self, other)", "trial(self)",
+            "__call__(self, kinds, answers=())"],
+        ["__len__", "__eq__"], ["program", "history"], {},
+    ),
+    ("desk", "Desk()"): (
+        ["all_names(self)", "start(self, name)", "load(self, text)"],
+        ["__getitem__", "__setitem__", "__contains__", "__len__", "__iter__"], [], {},
+    ),
 }
 
 
@@ -57,6 +81,26 @@ class InterfaceTest(unittest.TestCase):
                 function = getattr(module, text.partition("(")[0])
                 self.assertEqual(function.__name__ + str(inspect.signature(function)), text)
                 self.assertEqual(function.__module__, f"keptops.{name}")
+
+    def test_each_class_has_its_methods_itself(self):
+        for (name, text), (methods, operators, properties, others) in CLASSES.items():
+            module = importlib.import_module(f"keptops.{name}")
+            found = getattr(module, text.partition("(")[0])
+            self.assertEqual(found.__name__ + str(inspect.signature(found)), text)
+            self.assertEqual((found.__module__, found.__bases__), (f"keptops.{name}", (object,)))
+            body = vars(found)
+            for method in methods:
+                function = body[method.partition("(")[0]]
+                self.assertTrue(inspect.isfunction(function))
+                self.assertEqual(function.__name__ + str(inspect.signature(function)), method)
+            for operator in operators:
+                self.assertTrue(inspect.isfunction(body[operator]), operator)
+            for word in properties:
+                self.assertIs(type(body[word]), property)
+            for method, kind in others.items():
+                function = body[method.partition("(")[0]]
+                self.assertIs(type(function), kind)
+                self.assertEqual(function.__func__.__name__ + str(inspect.signature(function.__func__)), method)
 
 
 class FolderTest(unittest.TestCase):
