@@ -75,7 +75,7 @@ class Counting:
 
 def _are_answers(value):
     """Whether this is a tuple of different answers."""
-    if not isinstance(value, tuple):
+    if not isinstance(value, tuple) or len(value) > len(ANSWERS):
         return False
     return all([answer in ANSWERS and answer not in value[:at] for at, answer in enumerate(value)])
 
@@ -215,7 +215,7 @@ def _is_level(value, many):
 def _holds(counting, state, levels):
     """Whether the level of a state is right, if those behind it are."""
     for _, many, following in counting.calls_from(state):
-        if following is None and many > levels[state]:
+        if many > levels[state]:
             return False
         if following is not None and (following not in levels or levels[following] > levels[state] - many):
             return False

@@ -2,7 +2,6 @@
 
 from keptops.errors import InvalidHistory
 from keptops.programs import check_history, holds_at_first, kept_names, run_call
-from keptops.states import CONSTANT_KINDS
 
 
 def is_complete(events, outcome, call):
@@ -25,10 +24,8 @@ def held_behind(program, history):
 
 
 def with_kind(held):
-    """A value that is held with its kind, in the place of its truth."""
+    """A value that is held with its kind, in the place of its truth; of a constant the kind does not count."""
     value, truth = held
-    if value[0] != "object":
-        return (value, CONSTANT_KINDS[value[0]])
     return (value, "t" if truth else "f")
 
 

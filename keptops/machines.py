@@ -57,7 +57,7 @@ class Room:
 
 def _check_tree(tree, room, happened, level):
     """Raise InvalidMachine if the value is no tree; `happened` tells for each event on the way whether it failed."""
-    if level > MOST_TREE_LEVELS or not isinstance(tree, tuple) or len(tree) == 0 or not isinstance(tree[0], str):
+    if level > MOST_TREE_LEVELS or not isinstance(tree, tuple) or len(tree) == 0:
         raise InvalidMachine("this is not a tree")
     if tree[0] == "end" and len(tree) == 4:
         _check_end(tree, room, happened)

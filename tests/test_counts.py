@@ -317,6 +317,20 @@ class CheckMostTest(CountsCase):
             found = ("most", 1, [((), ["t", "n"])], [(("none",), 1), (("true",), number)])
             self.assertIs(check_most(free, "f", found, ("t",)), is_answer(free, "f", found, ("t",)))
 
+    def test_levels_that_could_be_greater(self):
+        """Behind a call in which nothing counts, more might still happen, as far as the levels tell."""
+        rows = (("if", ("isnone", A), (("if", P, (("set", "a", TRUE), ("give", NONE)), (("set", "a", FALSE),)),
+            ("give", call("f", F))), ()),)
+        program = (("p",), kept("a"), rows)
+        word, number, history, levels = self.check_counts(program, "f", ("t", "f", "n"))
+        self.assertEqual((number, sorted(levels)), (2, [(("false",), 0), (("none",), 2), (("true",), 0)]))
+        for true in range(4):
+            for false in range(3):
+                found = ("most", 2, history, [(("none",), 2), (("true",), true), (("false",), false)])
+                answers = ("n", "t", "f")
+                self.assertIs(check_most(program, "f", found, answers), is_answer(program, "f", found, answers))
+                self.assertIs(check_most(program, "f", found, answers), true < 3 and false == 0)
+
     def test_wrong_parts(self):
         """Each thing that can be wrong in each part."""
         states, numbers = [level[0] for level in LEVELS], [True, False, None, "1", (1,), [1], {}, 10 ** 29, -1, 0, 2]
@@ -349,9 +363,9 @@ class CheckMostTest(CountsCase):
     def test_wrong_rings(self):
         rings = [None, (), [], {}, 0, "n", (((), ["n"]),), [None], [((), ("n",))], [((), ["q"])], [(("t",), ["n"])],
             [((), [])], [((), ["t"])], [((), ["f"])], [((), ["n", "n"])], [((), ["n"]), ((), [])],
-            [((), ["n"]), ((), ["t"])], [((), ["x", "x"])], [((), ["x"]), ((), ["x", "n"])]]
+            [((), ["n"]), ((), ["t"])], [((), []), ((), ["n"])], [((), ["x", "x"])], [((), ["x"]), ((), ["x", "n"])]]
         histories = [None, (), {}, 0, "n", [None], [((), ("n",))], [((), [])], [((), ["n", "n"])], [((), ["t"])],
-            [((), ["n"]), ((), ["f"])], [((), ["q"])], [((), ["x"]), ((), [])]]
+            [((), ["n"]), ((), ["f"])], [((), ["q"])], [((), ["x"]), ((), [])], [((), []), ((), ["n"])]]
         wrong = [("endless", [], ring) for ring in rings] + [("endless", history, ENDLESS[2]) for history in histories]
         # Nothing that counts is in the ring.
         wrong += [("endless", [((), ["t"])], [((), [])]), ("endless", [((), ["n"]), ((), ["f"])], [((), [])] * 5)]

@@ -159,6 +159,19 @@ class LeastLikeTest(LikesCase):
         self.assertEqual(found, ([(("t",), []), (("t",), ["t"])],
             [((0, ("name", "p")), (1, ("name", "p"))), ((1, ("name", "p")), (0, ("name", "p")))]))
 
+    def test_names_that_cross(self):
+        """What the one name holds belongs to what the other one holds: the true object is shown first."""
+        rows = (("if", ("isnone", A), (("set", "a", P), ("give", NONE)), ()), ("if", ("isnone", B), (("set", "b", P),
+            ("give", NONE)), ()), ("give", call("f", ("if", A, A, B), ("if", A, B, A))))
+        program = (("p",), kept("a", "b"), rows)
+        wanted = [((0, ("name", "p")), (1, ("name", "p"))), ((1, ("name", "p")), (0, ("name", "p")))]
+        for kind, pairs in [("t", wanted), ("f", wanted)]:
+            history = [(("f",), []), ((kind,), []), (("n",), ["x"])]
+            self.assertEqual(self.check_like(program, history), ([(("t",), []), (("t",), [])], pairs))
+        straight = [(source, source) for source, _ in wanted]
+        self.assertEqual(self.check_like(program, [(("t",), []), (("f",), [])]),
+            ([(("t",), []), (("t",), [])], straight))
+
     def test_objects_that_are_held_but_not_needed(self):
         lost = (("p",), kept("a", "b"), (("set", "a", P), ("if", ("isnone", B), (("set", "b", F),), ()), ("give", B)))
         self.assertEqual(self.check_call(least_like, lost, [(("t",), ["n"]), (("f",), ["f"]), (("n",), [])]),

@@ -175,6 +175,9 @@ class RunTest(MachineCase):
         for _ in range(29):
             deep = test(P0, deep, end(), end())
         self.check_run((("p",), 0, ((0, deep),)), [(("t",), []), (("f",), [])])
+        for tree in [levels_of(30), ask("f", (), levels_of(29), end()), ask("f", (), end(), levels_of(29)),
+                     ask("f", (), end(), ask("f", (), levels_of(28), levels_of(28)))]:
+            self.check_run((("p",), 0, ((0, tree),)), [(("n",), ["x", "t"]), (("f",), ["t"])])
         six = end(("event", 5), 1, *[("event", number) for number in (0, 1, 2, 3, 4, 5, 0, 5)])
         for number in reversed(range(6)):
             six = ask("f", (("event", number - 1),) * 3 if number else (), six, failed(number))
@@ -216,6 +219,9 @@ def bad_trees():
     plain += [("ask", "f", ()), ask("f", (), end(), end())[:3], (*ask("f", (), end(), end()), 0)]
     plain += [("ask", "f", (), (end(),)), ("ask", "f", (), (end(),) * 3), ("ask", "f", (), [end(), end()])]
     plain += [("ask", "f", (), end(), end()), ("ask", "f", (), None), ("ask", "f", (), {0: end(), 1: end()})]
+    plain += [(word, P0, (end(),) * 3) for word in ["tests", "Test", "", "ask", None, 0, ("test",), ["test"]]]
+    words = ["asks", "Ask", "", "test", "end", None, 0, ("ask",), ["ask"]]
+    plain += [(word, "f", (), (end(), end())) for word in words]
     # Outcomes.
     outcomes = [*helper.no_values(), (), ("value",), ("failed",), ("value", NONE, NONE), ["value", NONE], ("wanting",)]
     outcomes += [("values", NONE), ("", NONE), (None, NONE), (("value",), NONE), ("failed", 0), ("failed", NONE)]
@@ -243,6 +249,9 @@ def bad_trees():
     # Events that did not happen, or failed, on this way.
     for tree in [end(E0), *around(E0), ask("g", (E0,), end(), end()), ask("g", (), end(E0), failed(1))]:
         found += [(ask("f", (), end(E0), tree), 0, pq), (tree, 0, pq)]
+    for word in ["events", "Event", "", "name", "kept", "answer", None, 0, ("event",), ["event"]]:
+        for tree in [end((word, 0)), *around((word, 0)), ask("g", ((word, 0),), end(), end())]:
+            found += [(ask("f", (), tree, failed(0)), 0, pq)]
     for tree in [end(E1), *around(E1), ask("g", (E1,), end(), end()), failed(0), failed(1), failed(True), failed(-1)]:
         found += [(ask("f", (), tree, failed(0)), 0, pq)]
     for tree in [failed(1), failed(2), failed(False), failed(True), failed(None), failed("0"), failed(E0)]:
@@ -259,10 +268,18 @@ def bad_trees():
         for _ in range(6):
             last = ask("f", (), end(), last)
         found += [(way(last), 0, pq)]
-    deep = end()
-    for _ in range(30):
-        deep = test(P0, end(), end(), deep)
+    deep = levels_of(31)
+    found += [(ask("f", (), levels_of(30), end()), 0, pq), (ask("f", (), end(), levels_of(30)), 0, pq)]
+    found += [(ask("f", (), end(), ask("f", (), levels_of(29), end())), 0, pq)]
     return found + [(seven, 0, pq), (deep, 0, pq), (ask("f", (), deep, end()), 0, pq)]
+
+
+def levels_of(many):
+    """A tree with so many levels."""
+    tree = end()
+    for _ in range(many - 1):
+        tree = test(P0, end(), end(), tree)
+    return tree
 
 
 def deep_tree(levels):
@@ -392,6 +409,12 @@ class MachineTest(MachineCase):
         twice = (("p", "q"), kept("a", "b"), (("if", ("isnone", P), (("give", call("f", A, B)),), ()),
             ("if", Q, (("set", "a", P), ("set", "b", P)), (("set", "b", A), ("set", "a", P)))))
         self.check_machine(twice, 2)
+
+    def test_one_object_in_two_names_ahead_of_another_one(self):
+        rows = (("if", ("isnone", A), (("set", "a", P), ("set", "b", P), ("set", "c", Q), ("give", NONE)), ()),
+            ("if", P, (("give", B),), ()), ("if", Q, (("give", C),), ()))
+        found = self.check_machine((("p", "q"), kept("a", "b", "c"), rows), 3)
+        self.assertEqual(max(places for places, _ in found[2]), 2)
 
     def test_objects_that_are_not_needed(self):
         """The machine keeps just their kinds."""

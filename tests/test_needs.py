@@ -95,6 +95,14 @@ class NeededTest(NeedsCase):
         for many in range(6):
             self.check_needed(program, helper.some_history(source, program, many), 3)
 
+    def test_one_object_in_two_names_ahead_of_another_one(self):
+        rows = (("if", ("isnone", A), (("set", "a", P), ("set", "b", P), ("set", "c", Q), ("give", NONE)), ()),
+            ("if", P, (("give", B),), ()), ("if", Q, (("give", C),), ()))
+        wanted = [((0, ("name", "p")), [(("t", "t"), [])]), ((0, ("name", "q")), [(("f", "t"), [])])]
+        for kinds in [("t", "f"), ("f", "t"), ("t", "t")]:
+            self.assertEqual(self.check_call(needed, (("p", "q"), kept("a", "b", "c"), rows), [(kinds, [])]), wanted)
+        self.assertEqual(self.check_call(most_needed, (("p", "q"), kept("a", "b", "c"), rows)), (2, [(("t", "t"), [])]))
+
     def test_objects_that_are_never_shown(self):
         truth = (("p",), kept("a"), (("if", A, (("set", "a", P), ("give", TRUE)), (("set", "a", P), ("give", NONE))),))
         for kind in "tfn":

@@ -172,7 +172,7 @@ class WrongLineTest(TextCase):
         wrong += ["setx p", "set x = p", "if", "if p", "if then", "if p thens", "if p then then", "if p then end"]
         wrong += ["then", "if p then p", "try p", "try try", "trys", "program", "program p q", "keep x none", "p"]
         wrong += ["x p", "give p;", "if pthen", "if (p)then", "set x, p", "set x\tp", "give\tp", "none", "name a"]
-        wrong += ["elses", "end end", "end program"]
+        wrong += ["elses", "end end", "end program", "while p then", "p then", "then p then", "else p then", "try then"]
         for line in wrong:
             for ahead in ["", "give p\n", "if p then\n", "try\n", "try\nexcept\n", "if p then\nelse\n"]:
                 at = 1 + ahead.count("\n")

@@ -141,6 +141,11 @@ class CallsTest(RunCase):
             run(("t", "t"))
         caught.exception.events.clear()
         self.check_refused(run, Wanting, ("t", "t"), events=[("f", ())])
+        # What is compared is what was told, and not what became of it.
+        loaded = Run(CACHE)
+        events, _ = loaded((), ["t"])
+        events.append(("g", ()))
+        self.assertIsNone(loaded.same_future(run_of(CACHE, [((), ["t"])])))
         found = run_of(LAST).same_future(run_of((*LAST[:2], (*LAST[2][:1], ("give", P)))))
         again = run_of(LAST).same_future(run_of((*LAST[:2], (*LAST[2][:1], ("give", P)))))
         found[0][1].append("q")
