@@ -37,7 +37,8 @@ class Counting:
             if moment.holds is None:
                 has_word = moment.told[1] == self.word
                 for answer in ANSWERS:
-                    ahead[(*answers, answer)] = ahead[answers] + (1 if has_word and answer in self.counted else 0)
+                    behind = (*answers, answer)
+                    ahead[behind] = ahead[answers] + (1 if has_word and answer in self.counted else 0)
                 if has_word and len(self.counted) == len(ANSWERS):
                     counts[answers] = ahead[answers] + 1
         return counts

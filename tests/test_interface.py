@@ -130,6 +130,13 @@ class FolderTest(unittest.TestCase):
                     self.assertIn(node, tree.body, path)
                     self.check_import(node)
 
+    def test_no_star_in_an_index(self):
+        for path, text in self.files():
+            for node in ast.walk(ast.parse(text)):
+                if isinstance(node, ast.Subscript):
+                    stars = [part for part in ast.walk(node.slice) if isinstance(part, ast.Starred)]
+                    self.assertEqual(stars, [], (path, node.lineno))
+
     def check_import(self, node):
         """Names come from the very file that defines them."""
         self.assertTrue(node.module.startswith("keptops."))
